@@ -1,0 +1,1 @@
+"""Trueleaf: pages that tell the truth of themselves."""
