@@ -31,6 +31,15 @@ join keys ljust lower lstrip partition pop remove replace reverse rfind rjust rp
 split splitlines startswith strip update upper values zfill bit_length
 """.split())
 
+WALKED = set("zip enumerate reversed range items keys values".split())
+WALKERS = set("list tuple dict sorted sum any all enumerate zip min max".split())
+
+NOT_USED = set("""
+register mro elements open input version_info with_traceback add_note attrgetter breakpoint builtins compile copyright
+credits delattr dir eval exec exit gc getattr globals hasattr help id importlib license locals methodcaller os quit
+setattr super type vars sys chr format format_map
+""".split())
+
 SPECIAL = ("__init__", "__eq__", "__repr__", "__str__", "__len__")
 
 WORDS = re.compile(
@@ -58,6 +67,25 @@ def bound_names(tree):
             yield node, node.name
         elif isinstance(node, ast.alias):
             yield node, node.asname or node.name
+
+
+def called_name(node):
+    if not isinstance(node, ast.Call):
+        return None
+    return node.func.attr if isinstance(node.func, ast.Attribute) else getattr(node.func, "id", None)
+
+
+def walked_on_the_spot(tree):
+    """What stands where L23 lets it be walked."""
+    for node in ast.walk(tree):
+        if isinstance(node, (ast.For, ast.comprehension)):
+            yield node.iter
+        elif called_name(node) in WALKERS and node.args:
+            yield node.args[0]
+            if called_name(node) == "zip":
+                yield from node.args[1:]
+        elif called_name(node) == "join" and isinstance(node.func.value, ast.Constant):
+            yield node.args[0]
 
 
 class Form(unittest.TestCase):
@@ -101,7 +129,7 @@ class Form(unittest.TestCase):
                     self.refuse("L6, L7", path, node, node.__class__.__name__)
                 if isinstance(node, ast.Constant) and isinstance(node.value, (float, bytes, complex)):
                     self.refuse("L7", path, node, node.value)
-                if isinstance(node, ast.Assign) and len(node.targets) != 1:
+                if isinstance(node, ast.Assign) and (len(node.targets) != 1 or isinstance(node.targets[0], ast.Tuple)):
                     self.refuse("L6", path, node, "several targets")
                 if isinstance(node, (ast.For, ast.While)) and node.orelse:
                     self.refuse("L6", path, node, "else behind a loop")
@@ -116,6 +144,65 @@ class Form(unittest.TestCase):
                 if isinstance(node, ast.ImportFrom):
                     if node not in tree.body or node.level or not (node.module or "").startswith("trueleaf."):
                         self.refuse("L2, L16", path, node, node.module)
+
+    def test_imports_come_from_the_file_that_defines_the_name(self):
+        trees = {path.stem: tree for path, tree in self.trees}
+        drawn = {}
+        for path, tree in self.trees:
+            rows = [node for node in tree.body if isinstance(node, ast.ImportFrom)]
+            drawn[path.stem] = {node.module.split(".")[1] for node in rows}
+            for node in rows:
+                top = trees[node.module.split(".")[1]].body
+                defined = {one.name for one in top if isinstance(one, (ast.FunctionDef, ast.ClassDef))}
+                defined |= {one.targets[0].id for one in top if isinstance(one, ast.Assign)}
+                for one in node.names:
+                    if one.name not in defined or one.asname:
+                        self.refuse("L16", path, node, one.name)
+        for each in drawn:
+            for name in list(drawn):
+                drawn[name] = drawn[name].union(*[drawn[other] for other in drawn[name]])
+        self.assertEqual([name for name in drawn if name in drawn[name]], [], "L16: files that draw from one another")
+
+    def test_locals_are_not_called_like_imports_or_classes(self):
+        for path, tree in self.trees:
+            tops = [one.name for node in tree.body if isinstance(node, ast.ImportFrom) for one in node.names]
+            tops += [node.name for node in tree.body if isinstance(node, (ast.ClassDef, ast.FunctionDef))]
+            for function in ast.walk(tree):
+                if isinstance(function, ast.FunctionDef):
+                    for node, name in bound_names(function):
+                        if node is not function and name in tops:
+                            self.refuse("L15", path, node, name)
+
+    def test_walked_at_once(self):
+        for path, tree in self.trees:
+            on_the_spot = list(walked_on_the_spot(tree))
+            for node in ast.walk(tree):
+                if called_name(node) in WALKED and node not in on_the_spot:
+                    self.refuse("L23", path, node, ast.unparse(node))
+
+    def test_names_that_are_not_used(self):
+        for path, tree in self.trees:
+            for node in ast.walk(tree):
+                name = getattr(node, "id", None) or getattr(node, "attr", None)
+                if name in NOT_USED:
+                    self.refuse("L17, L27", path, node, name)
+            for node, name in bound_names(tree):
+                if name in NOT_USED:
+                    self.refuse("L17", path, node, name)
+
+    def test_no_annotations(self):
+        for path, tree in self.trees:
+            for node in ast.walk(tree):
+                if getattr(node, "annotation", None) or getattr(node, "returns", None):
+                    self.refuse("L21", path, node, "an annotation")
+
+    def test_exponents_are_written_out(self):
+        for path, tree in self.trees:
+            for node in ast.walk(tree):
+                if isinstance(node, ast.BinOp) and isinstance(node.op, ast.Pow):
+                    right = node.right.value if isinstance(node.right, ast.Constant) else -1
+                    if not 0 <= right <= 64:
+                        self.refuse("L27", path, node, ast.unparse(node))
 
     def test_tops_of_files(self):
         allowed = (ast.ImportFrom, ast.FunctionDef, ast.ClassDef, ast.Assign)
@@ -170,6 +257,13 @@ class Form(unittest.TestCase):
                     sides = [node.left] + node.comparators
                     if not any(ast.unparse(one) in ("None", "True", "False") for one in sides):
                         self.refuse("L20", path, node, ast.unparse(node))
+
+    def test_fstrings_hold_plain_names(self):
+        for path, tree in self.trees:
+            for node in ast.walk(tree):
+                if isinstance(node, ast.FormattedValue):
+                    if not isinstance(node.value, ast.Name) or node.format_spec or node.conversion not in (-1, ord("r")):
+                        self.refuse("L7", path, node, ast.unparse(node))
 
     def test_texts(self):
         for path, tree in self.trees:
