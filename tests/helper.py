@@ -1,6 +1,7 @@
-"""What several files of tests need: the lists within a value, and calls that must be refused."""
+"""What several files of tests need: the lists within a value, calls that must be refused, small books."""
 
 import copy
+import itertools
 
 
 def lists_in(value):
@@ -46,3 +47,44 @@ def check_refused(test, refusal, function, *given):
         function(*given)
     test.assertIs(type(caught.exception), refusal)
     test.assertEqual(given, before)
+
+
+def word(lead=0, kept=False, saying=("text", "x"), foot=()):
+    return (lead, kept, saying, list(foot))
+
+
+def tall(rows, wide=5):
+    """A foot of so many sayings: as many rows, where no two of them stand in one."""
+    return [("text", "f" * wide)] * rows
+
+
+def plain(*texts):
+    """Words that say these texts, of lead 0, not kept, without feet."""
+    return [word(saying=("text", text)) for text in texts]
+
+
+def some_saying(chance, many):
+    if many and chance.random() < 0.5:
+        return (chance.choice(("page", "row")), chance.randrange(many))
+    return ("text", "x" * chance.randint(1, 3))
+
+
+def some_book(chance, most_words=4):
+    """A small book, of pages and rows so few that all its layings can be looked at."""
+    form = (chance.randint(2, 7), chance.randint(1, 3), chance.choice((0, 1, 8, 9, 98, 99)), chance.randint(1, 2))
+    many = chance.randint(0, most_words)
+    words = []
+    for k in range(many):
+        lead = chance.choice((0, 0, 0, 0, 1, 1, 2, 3, 4))
+        foot = [some_saying(chance, many) for each in range(chance.choice((0, 0, 0, 1, 2)))]
+        words.append((lead, chance.random() < 0.3, some_saying(chance, many), foot))
+    return (form, words)
+
+
+def all_places(form, pages):
+    return list(itertools.product(range(pages), range(form[1])))
+
+
+def all_layings(book, pages):
+    for places in itertools.product(all_places(book[0], pages), repeat=len(book[1])):
+        yield list(places)

@@ -262,7 +262,8 @@ class Form(unittest.TestCase):
         for path, tree in self.trees:
             for node in ast.walk(tree):
                 if isinstance(node, ast.FormattedValue):
-                    if not isinstance(node.value, ast.Name) or node.format_spec or node.conversion not in (-1, ord("r")):
+                    plain = isinstance(node.value, ast.Name) and node.conversion in (-1, ord("r"))
+                    if not plain or node.format_spec:
                         self.refuse("L7", path, node, ast.unparse(node))
 
     def test_texts(self):

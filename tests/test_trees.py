@@ -126,7 +126,8 @@ class Places(unittest.TestCase):
                         check_refused(self, BadCall, tree_of, ["[a"] + row + ["]"], count)
 
     def test_the_dollar_with_other_signs(self):
-        texts = ["$", "$$", "$a", "$10", "$12", "$1a", "a$1", "$-", "$|", "$]", "$[", "$.", "1$", "$1$", "$\u00b2", "a1", "11", "1", "#1"]
+        texts = ["$", "$$", "$a", "$10", "$12", "$1a", "a$1", "$-", "$|", "$]", "$[", "$.", "1$", "$1$", "$\u00b2",
+                 "a1", "11", "1", "#1"]
         for count in (None, 0, 1, 9):
             for text in texts:
                 with self.subTest(count=count, text=text):

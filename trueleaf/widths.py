@@ -16,6 +16,11 @@ def wide_of(form, saying, places):
     return len(said(form, saying, places))
 
 
+# How wide words of these widths are together, with one blank between two.
+def together(wides):
+    return sum(wides) + len(wides) - 1
+
+
 def foot_rows(form, foot, places):
     rows = []
     for saying in foot:
