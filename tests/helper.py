@@ -3,6 +3,8 @@
 import copy
 import itertools
 
+from trueleaf.truths import first_fault
+
 
 def lists_in(value):
     """Every list and dict within a value, itself too, once for each time that it stands there."""
@@ -18,9 +20,12 @@ def lists_in(value):
 
 
 def scribble(value):
-    """Change every list within a value."""
+    """Change every list and dict within a value."""
     for one in lists_in(value):
-        one.append("scribbled")
+        if isinstance(one, dict):
+            one["scribbled"] = "scribbled"
+        else:
+            one.append("scribbled")
 
 
 def check_own(test, function, *given):
@@ -81,6 +86,13 @@ def some_book(chance, most_words=4):
     return (form, words)
 
 
+def some_bounds(chance, book, pages):
+    low = []
+    for each in book[1]:
+        low.append((chance.randrange(pages), chance.randrange(book[0][1])))
+    return low if chance.random() < 0.4 else sorted(low)
+
+
 def all_places(form, pages):
     return list(itertools.product(range(pages), range(form[1])))
 
@@ -88,3 +100,29 @@ def all_places(form, pages):
 def all_layings(book, pages):
     for places in itertools.product(all_places(book[0], pages), repeat=len(book[1])):
         yield list(places)
+
+
+def true_layings(book, low):
+    """All true layings of a small book of which no word stands earlier than bounds tell."""
+    for places in all_layings(book, book[0][3]):
+        if all(place >= bound for place, bound in zip(places, low)) and first_fault(book, places) is None:
+            yield places
+
+
+def first_of_all(layings):
+    """For each word the earliest place that it has in any of the layings; None where there is no laying."""
+    layings = list(layings)
+    return [min(places) for places in zip(*layings)] if layings else None
+
+
+def with_shifted(words, at, many):
+    """The words with their pointing numbers as they are where so many words are put in ahead of word at."""
+    def saying(one):
+        return (one[0], one[1] + many) if one[0] != "text" and one[1] >= at else one
+    return [(lead, kept, saying(own), [saying(one) for one in foot]) for lead, kept, own, foot in words]
+
+
+def put_in(book, at, run):
+    """The book grown by a run of words, whose pointing numbers are those of the grown book."""
+    words = with_shifted(book[1], at, len(run))
+    return (book[0], words[:at] + list(run) + words[at:])

@@ -4,7 +4,7 @@ import itertools
 import random
 import unittest
 
-from helper import all_layings, check_own, check_refused, plain, some_book, tall, word
+from helper import check_own, check_refused, first_of_all, plain, some_book, some_bounds, tall, true_layings, word
 from trueleaf.bounds import first_bounds, raised, reach, walked
 from trueleaf.errors import BadPaper
 from trueleaf.truths import first_fault
@@ -301,13 +301,6 @@ class Papers(unittest.TestCase):
         check_refused(self, BadPaper, walked, self.BOOK, list(self.LOW), paper)
 
 
-def some_bounds(chance, book, pages):
-    low = []
-    for each in book[1]:
-        low.append((chance.randrange(pages), chance.randrange(book[0][1])))
-    return low if chance.random() < 0.4 else sorted(low)
-
-
 def all_reaches(book, low, i):
     """Every reason that reaches anything for word i, with some j around the words."""
     found = []
@@ -428,9 +421,8 @@ class SmallBooks(unittest.TestCase):
         for chance, book, low in self.books(250, 2):
             if chance.random() < 0.5:
                 low = first_bounds(book)
-            true = [places for places in all_layings(book, book[0][3]) if first_fault(book, places) is None]
-            true = [places for places in true if all(place >= one for place, one in zip(places, low))]
-            first = [min(places) for places in zip(*true)] if true else None
+            true = list(true_layings(book, low))
+            first = first_of_all(true)
             for order in range(3):
                 laying, paper = settled(book, low, chance)
                 self.assertEqual(laying, first, (book, low))

@@ -250,6 +250,21 @@ class Form(unittest.TestCase):
                     if node.func.attr not in METHODS | own:
                         self.refuse("L25", path, node, node.func.attr)
 
+    def test_names_of_methods_and_of_values(self):
+        given = set()
+        methods = set()
+        for path, tree in self.trees:
+            for node in ast.walk(tree):
+                if isinstance(node, ast.Attribute) and isinstance(node.ctx, ast.Store):
+                    given.add(node.attr)
+                if isinstance(node, ast.ClassDef):
+                    names = [one.name for one in node.body if isinstance(one, ast.FunctionDef)]
+                    self.assertEqual(len(names), len(set(names)), f"L18 {path.name}: {node.name}")
+                    methods.update(names)
+        self.assertEqual(given & methods, set(), "L18: a method of one class and a value of another")
+        taken = {name for kind in (str, int, list, dict, set, bytes, ValueError) for name in dir(kind)}
+        self.assertEqual((given | methods - set(SPECIAL)) & taken, set(), "L26: a name that Python's own values have")
+
     def test_is_stands_beside_none_true_false(self):
         for path, tree in self.trees:
             for node in ast.walk(tree):
